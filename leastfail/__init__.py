@@ -1,0 +1,1 @@
+"""Leastfail: failing inputs made least by delta debugging."""

@@ -1,0 +1,115 @@
+"""TRIALS: what a TEST told, kept, counted and bounded."""
+
+from leastfail.cases import is_configuration, want_configuration
+from leastfail.errors import BadValue, BadVerdict, Nested, Spent
+from leastfail.kinds import is_number
+
+MOST_CALLS = 20000
+MOST_HANDED = 1000000
+VERDICTS = ("fail", "pass", "unresolved")
+
+
+def is_verdict(thing):
+    """Whether anything is a VERDICT."""
+    return isinstance(thing, str) and thing in VERDICTS
+
+
+def is_row(thing):
+    """Whether anything is a ROW."""
+    if not isinstance(thing, tuple) or len(thing) != 2:
+        return False
+    return is_configuration(thing[0]) and is_verdict(thing[1])
+
+
+def are_rows(thing):
+    """Whether anything is a list or a tuple of ROWS, no CONFIGURATION twice."""
+    if not isinstance(thing, (list, tuple)):
+        return False
+    seen = set()
+    for row in thing:
+        if not is_row(row) or row[0] in seen:
+            return False
+        seen.add(row[0])
+    return True
+
+
+class Trials:
+    """What is known of a TEST, and how often it may be CALLED."""
+
+    def __init__(self, test, *, most=MOST_CALLS, known=()):
+        if not is_number(most, 0, MOST_HANDED):
+            raise BadValue("most")
+        if not are_rows(known):
+            raise BadValue("known")
+        self.test = test
+        self.most = most
+        self.verdicts = {parts: verdict for parts, verdict in known}
+        self.called = []
+        self.calling = False
+
+    def ask(self, parts):
+        """The VERDICT of a CONFIGURATION, CALLED if it isn't known."""
+        want_configuration(parts, "parts")
+        if self.calling:
+            raise Nested()
+        if parts in self.verdicts:
+            return self.verdicts[parts]
+        if len(self.called) >= self.most:
+            raise Spent(self.most)
+        verdict = self.call_test(parts)
+        self.verdicts[parts] = verdict
+        self.called.append((parts, verdict))
+        return verdict
+
+    def call_test(self, parts):
+        """What the TEST tells; whatever it raises goes on, but the call is over then, too."""
+        test = self.test
+        self.calling = True
+        try:
+            told = test(parts)
+        finally:
+            self.calling = False
+        if not is_verdict(told):
+            raise BadVerdict(told)
+        return told
+
+    def fails(self, parts):
+        """Whether a CONFIGURATION FAILS."""
+        return self.ask(parts) == "fail"
+
+    def rows(self):
+        """All ROWS, in the order in which they were CALLED."""
+        return list(self.called)
+
+    def verdict_of(self, parts):
+        """What is known of a CONFIGURATION, or None."""
+        want_configuration(parts, "parts")
+        return self.verdicts.get(parts)
+
+    def known_rows(self):
+        """All that is known, rising by CONFIGURATION."""
+        return sorted(self.verdicts.items())
+
+    def is_calling(self):
+        """Whether the TEST is being CALLED."""
+        return self.calling
+
+    def allow(self, more):
+        """Lets so many more be CALLED."""
+        if not is_number(more, 0, MOST_HANDED):
+            raise BadValue("more")
+        self.most += more
+
+    def left(self):
+        """How many may be CALLED still."""
+        return self.most - len(self.called)
+
+    def same_test(self):
+        """Other TRIALS of the very TEST that know what is known here."""
+        other = Trials(self.test, known=self.known_rows())
+        # What was allowed may have made MOST greater than what can be handed in.
+        other.most = self.most
+        return other
+
+    def __len__(self):
+        return len(self.called)
