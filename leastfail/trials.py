@@ -1,7 +1,7 @@
 """TRIALS: what a TEST told, kept, counted and bounded."""
 
 from leastfail.cases import is_configuration, want_configuration
-from leastfail.errors import BadValue, BadVerdict, Nested, Spent
+from leastfail.errors import BadValue, BadVerdict, Nested, NotSo, Spent
 from leastfail.kinds import is_number
 
 MOST_CALLS = 20000
@@ -113,3 +113,23 @@ class Trials:
 
     def __len__(self):
         return len(self.called)
+
+
+def want_trials(thing):
+    """Refuses what are no TRIALS."""
+    if not isinstance(thing, Trials):
+        raise BadValue("trials")
+
+
+def want_verdict(trials, parts, wanted):
+    """Refuses a CONFIGURATION that, ASKED, is another VERDICT than the wanted one."""
+    verdict = trials.ask(parts)
+    if verdict != wanted:
+        raise NotSo(parts, verdict)
+
+
+def want_failing(trials, parts):
+    """Refuses what a reducer can't begin from: no TRIALS, no CONFIGURATION, or one that doesn't FAIL."""
+    want_trials(trials)
+    want_configuration(parts, "parts")
+    want_verdict(trials, parts, "fail")
