@@ -2,7 +2,7 @@
 
 from leastfail.cases import is_configuration, is_within, together, want_configuration, without
 from leastfail.errors import BadValue
-from leastfail.kinds import is_number
+from leastfail.kinds import is_number, is_tuple_of
 from leastfail.trials import are_rows, is_verdict, want_trials
 
 
@@ -38,11 +38,6 @@ def known_by(rows):
     if not are_rows(rows):
         raise BadValue("rows")
     return {parts: verdict for parts, verdict in rows}
-
-
-def is_tuple_of(thing, count):
-    """Whether anything is a tuple of so many things."""
-    return isinstance(thing, tuple) and len(thing) == count
 
 
 def is_told(thing, row):
