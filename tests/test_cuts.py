@@ -22,7 +22,8 @@ NO_CUTS = things() + ["", "drop", 0, [], ["drop", (1, 0)], ("drop",), ("drop", [
                       ("lift", deep_list(), endless_list()), (deep_tuple(), (1, 0)), ("drop", Hostile()),
                       (Hostile(), (1, 0)), ("drop", (Hostile(), 0)), ("drop", (1, 10 ** 30)), ("drop", (0,) * 10 ** 5),
                       ("", (1, 0)), ("drop", (1, 0), (1, 0)), (b"drop", (1, 0)), ("least", (1, 0), ()),
-                      ("raise", (), (1, 1, 1)), ("lift", (), (1, 1)), ("lift", (1, 1), (1,)), ("lift", (), (1, 0, 1, 0))]
+                      ("raise", (), (1, 1, 1)), ("lift", (), (1, 1)), ("lift", (1, 1), (1,)),
+                      ("lift", (), (1, 0, 1, 0))]
 
 
 def all_places(text, thing, place=()):
@@ -270,7 +271,8 @@ class CutTests(RefusalTests):
                                                   ("lift", (), (1, 1, 1))])
         self.all_refused("cut", lambda thing: cut_by(grammar, tree, thing), NO_CUTS)
         least = grammar.least_tree()
-        self.all_refused("cut", lambda thing: cut_by(grammar, least, thing), NO_CUTS + [("drop", (1, 0)), ("least", ())])
+        none = NO_CUTS + [("drop", (1, 0)), ("least", ())]
+        self.all_refused("cut", lambda thing: cut_by(grammar, least, thing), none)
         for cut in cuts_of(grammar, tree):
             self.refused("cut", cut_by, grammar, tree, list(cut))
             self.refused("cut", cut_by, grammar, tree, cut + ((),))

@@ -153,7 +153,8 @@ class FormTests(unittest.TestCase):
             for text in (f"A = {token}", f"A = {token} b {token}? c {token}* d"):
                 self.assertEqual(Grammar(text).begins("A"), [token])
         for token in ("abcdefghi", "aB", "Ba", "a=", "=a", "a|b", "|a", "a?b", "?a", "a*b", "*a", "?", "*", "??", "**",
-                      "a??", "a**", "a?*", "a*?", "A??", "A?*", "=", "a|", "||", "ABCDEFGHI", "ABCDEFGHI?", "abcdefghi*"):
+                      "a??", "a**", "a?*", "a*?", "A??", "A?*", "=", "a|", "||", "ABCDEFGHI", "ABCDEFGHI?",
+                      "abcdefghi*"):
             self.refused(f"A = {token}", 1, 3)
             self.refused(f"A = b {token} c", 1, 4)
             self.refused(f"A = b {token} c\n|", 1, 4)
@@ -217,7 +218,8 @@ class FormTests(unittest.TestCase):
         chance = random.Random("rows")
         for _ in range(1500):
             many = chance.choice((3, 8, 9))
-            alternatives = [" ".join(chance.choices("abcd", k=chance.choice((1, 2, 9, 10, 10, 11)))) for _ in range(many)]
+            counts = [chance.choice((1, 2, 9, 10, 10, 11)) for _ in range(many)]
+            alternatives = [" ".join(chance.choices("abcd", k=count)) for count in counts]
             words = ("A = " + " | ".join(alternatives)).split(" ")
             if chance.random() < 0.5:
                 words[chance.randrange(len(words))] = chance.choice(["|", "=", "", "B", "a?", "a?a"])
@@ -259,7 +261,8 @@ class RestTests(unittest.TestCase):
         Grammar("A = a C\nB = b A\nC = c B? .")
 
     def test_names_told_twice(self):
-        for text, row, word in (("A = a\nA = b", 2, 1), ("A = a\nB = b\nA = a", 3, 1), ("A = a\nB = b\nB = c\nA = d", 3, 1)):
+        for text, row, word in (("A = a\nA = b", 2, 1), ("A = a\nB = b\nA = a", 3, 1),
+                                ("A = a\nB = b\nB = c\nA = d", 3, 1)):
             self.refused(text, row, word)
 
     def test_what_stands_behind_what_is_marked(self):
@@ -286,7 +289,8 @@ class RestTests(unittest.TestCase):
                 ("A = a B c? d? e\nC = C", 1, 4), ("A = a c? d? e B\nC = C", 1, 4), ("A = a | a B", 1, 5),
                 ("A = B | a | a", 1, 3), ("A = a b c d? | B", 1, 6), ("A = a\nA = B", 2, 1), ("A = a B\nA = b", 1, 4),
                 ("A = a\nB = b\nC = X\nA = a", 3, 3), ("A = a b? B\nC = c", 1, 4), ("A = a B? c\nD = B | c", 1, 4),
-                ("A = a B? b\nB = b | b", 1, 4), ("A = a B? c\nB = b | b", 2, 5)):
+                ("A = a B? b\nB = b | b", 1, 4), ("A = a B? c\nB = b | b", 2, 5), ("A = a B? c\nB = b\nB = c", 1, 4),
+                ("A = a B? c\nB = c? d", 2, 3)):
             self.refused(text, row, word)
 
     def test_ahead_of_names_that_do_not_end(self):
@@ -449,7 +453,8 @@ class CountTests(RefusalTests):
             grammar = Grammar(text)
             paper = grammar.counts()
             self.assertIs(check_counts(grammar, paper), True)
-            wrong = [list(paper), paper + paper[-1:], paper[:-1], paper + ((),), (), tuple(map(list, paper)), str(paper)]
+            wrong = [list(paper), paper + paper[-1:], paper[:-1], paper + ((),), (), tuple(map(list, paper)),
+                     str(paper)]
             if len(paper) > 1:
                 wrong += [paper[::-1], paper[1:] + paper[:1]]
             for at, (name, count, place) in enumerate(paper):
@@ -457,8 +462,9 @@ class CountTests(RefusalTests):
                 rows += [(name, count, other) for other in range(-2, 10) if other != place]
                 rows += [(other, count, place) for other in ("", "X", name + " ", name.lower(), None, 0, (name,))]
                 rows += [(name, count), (name, count, place, place), [name, count, place], (count, name, place), name,
-                         None, (), (name, deep_tuple(), place), (deep_tuple(), count, place), (name, count, deep_list()),
-                         (name, 10 ** 40, place), (name, count, -10 ** 40), deep_tuple(), shared_tuple(), endless_list()]
+                         None, (), (name, deep_tuple(), place), (deep_tuple(), count, place),
+                         (name, count, deep_list()), (name, 10 ** 40, place), (name, count, -10 ** 40), deep_tuple(),
+                         shared_tuple(), endless_list()]
                 if count == 1:
                     rows.append((name, True, place))
                 if place in (0, 1):

@@ -74,7 +74,8 @@ def row(many):
 class InterfaceTests(unittest.TestCase):
 
     def test_arguments_defaults_and_stars(self):
-        for call, signature in ((is_tree, "(grammar, thing, *, name=None)"), (read_tree, "(grammar, text, *, name=None)"),
+        for call, signature in ((is_tree, "(grammar, thing, *, name=None)"),
+                                (read_tree, "(grammar, text, *, name=None)"),
                                 (tokens_of, "(tree)"), (text_of, "(tree)")):
             self.assertEqual(str(inspect.signature(call)), signature)
         self.assertEqual(MOST_TOKENS, 100)
@@ -189,7 +190,8 @@ class IsTreeTests(RefusalTests):
         for at, thing in enumerate(things() + STRANGE + NO_NAMES):
             with self.subTest(at=at):
                 for whole in (thing, (thing, thing, thing), ("LIST", thing, ("(", (), ")")), ("LIST", 0, thing),
-                              (thing, 0, ("(", (), ")")), ("LIST", 0, (thing, (), ")")), ("LIST", 0, ("(", (thing,), ")")),
+                              (thing, 0, ("(", (), ")")), ("LIST", 0, (thing, (), ")")),
+                              ("LIST", 0, ("(", (thing,), ")")),
                               ("LIST", 0, ("(", (), thing)), ["LIST", 0, ("(", (), ")")]):
                     right = same(whole, ("LIST", 0, ("(", (), ")")))
                     self.assertIs(is_tree(grammar, whole), right)

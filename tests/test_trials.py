@@ -345,7 +345,8 @@ class RaisingTests(unittest.TestCase):
         class Own(Exception):
             pass
         errors = [Gone(), Gone("lost"), Own("x"), ValueError("x"), KeyError("x"), ZeroDivisionError(), StopIteration(),
-                  RecursionError("deep"), KeyboardInterrupt(), SystemExit(3), BadValue("parts"), BadVerdict(1), Spent(3),
+                  RecursionError("deep"), KeyboardInterrupt(), SystemExit(3), BadValue("parts"), BadVerdict(1),
+                  Spent(3),
                   Nested(), NotSo((1,), "pass"), BadRow(1, 2)]
         for error in errors:
             with self.subTest(error=type(error).__name__):
