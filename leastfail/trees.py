@@ -140,7 +140,7 @@ def read_tree(grammar, text, *, name=None):
     if name is not None:
         want_name(grammar, name)
     words = text.split(" ") if isinstance(text, str) else []
-    if words == [] or "" in words or "\n" in text:
+    if words == [] or "" in words:
         raise BadToken(0)
     tree, behind = read_name(grammar, grammar.start() if name is None else name, words[:MOST_TOKENS], 0)
     if behind < len(words):

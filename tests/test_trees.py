@@ -298,13 +298,30 @@ class ReadTests(RefusalTests):
 
     def test_place_0(self):
         grammar = Grammar(MANY)
-        for text in ("", " ", "  ", "\n", " a", "a ", "b  a", "b\na", "a\n", "\na", "b \na", "i  i", " i", "i\n",
-                     "b\n" * 200, "a" + " " * 300, " ".join(["b"] * 200) + " "):
+        for text in ("", " ", "  ", " a", "a ", "b  a", "i  i", " i", "b\na ", " b\na", "b  \na", "\n ", " \n", "\n  \n",
+                     "a" + " " * 300, " ".join(["b"] * 200) + " ", "b\n" * 200 + " "):
             self.bad(0, grammar, text)
         for at, thing in enumerate(NO_TEXTS):
             with self.subTest(at=at):
                 self.bad(0, grammar, thing)
                 self.bad(0, grammar, thing, name="T")
+
+    def test_a_line_end_is_a_sign_of_its_word(self):
+        grammar = Grammar(MANY)
+        for place, text in ((1, "\n"), (1, "a\n"), (1, "\na"), (1, "b\na"), (2, "b \na"), (2, "b a\n"), (2, "b \n a"),
+                            (2, "b \n"), (1, "\n b a"), (3, "b b \n\n"), (1, "i\n"), (1, "b\n" * 200),
+                            (100, "b " * 99 + "a\n"), (101, "b " * 100 + "a\n"), (101, "b " * 99 + "a \n")):
+            self.bad(place, grammar, text)
+        self.bad(1, grammar, "u a\nv", name="S")
+        self.bad(2, grammar, "u a\nv", name="T")
+        for text in ALL:
+            for tree, _ in trees_of(text, Grammar(text).start(), 6):
+                words = tokens_in(tree)
+                for at in range(len(words)):
+                    for word in (words[at] + "\n", "\n" + words[at], words[at][:1] + "\n" + words[at][1:]):
+                        self.bad(at + 1, Grammar(text), " ".join(words[:at] + [word] + words[at + 1:]))
+                    joined = words[:at] + ["\n".join(words[at:at + 2]) + "\n"] + words[at + 2:]
+                    self.bad(at + 1, Grammar(text), " ".join(joined))
 
     def test_lacking_at_once(self):
         self.bad(2, Grammar(ROUND), "(")
