@@ -104,13 +104,14 @@ def put(tree, place, things):
     return name, choice, parts[:at] + (part,) + parts[at + 1:]
 
 
-def done(grammar, tree, cut):
-    """What comes of a CUT of which it is known that it is an ALLOWED one."""
+def done(grammar, trees, cut):
+    """What comes of a CUT of which it is known that it is an ALLOWED one, by all TREES in a TREE."""
+    tree = trees[()]
     if cut[0] == "drop":
         return put(tree, cut[1], ())
     if cut[0] == "least":
-        return put(tree, cut[1], (grammar.least_tree(thing_at(tree, cut[1])[0]),))
-    return put(tree, cut[1], (thing_at(tree, cut[1] + cut[2]),))
+        return put(tree, cut[1], (grammar.least_tree(trees[cut[1]][0]),))
+    return put(tree, cut[1], (trees[cut[1] + cut[2]],))
 
 
 def cut_by(grammar, tree, cut):
@@ -118,4 +119,4 @@ def cut_by(grammar, tree, cut):
     want_tree(grammar, tree)
     if not is_cut(cut) or not is_allowed(grammar, tree, cut):
         raise BadValue("cut")
-    return done(grammar, tree, cut)
+    return done(grammar, trees_in(tree), cut)

@@ -1,9 +1,8 @@
 """PAPERS: by what was told before, others can see that a CONFIGURATION is LEAST, or a pair ISOLATED."""
 
 from leastfail.cases import is_configuration, is_within, together, want_configuration, without
-from leastfail.errors import BadValue
 from leastfail.kinds import is_number, is_tuple_of
-from leastfail.trials import are_rows, is_verdict, want_trials
+from leastfail.trials import is_row, is_verdict, known_by, want_trials
 
 
 def is_near(verdicts):
@@ -11,14 +10,24 @@ def is_near(verdicts):
     return len(verdicts) == 1 or all([row[1:] == ("unresolved", "unresolved") for row in verdicts])
 
 
+def ones_less(parts):
+    """What is left of a CONFIGURATION without each of its numbers, by number."""
+    return {number: without(parts, (number,)) for number in parts}
+
+
+def paper_by(trials, parts, left):
+    """The PAPER of a CONFIGURATION by what is left of it, by number, or None where it or one of these isn't right."""
+    if not trials.fails(parts):
+        return None
+    verdicts = tuple([(number, trials.ask(left[number])) for number in parts])
+    return (parts, verdicts) if all([verdict != "fail" for number, verdict in verdicts]) else None
+
+
 def least_paper(trials, parts):
     """The PAPER of a LEAST CONFIGURATION, or None."""
     want_trials(trials)
     want_configuration(parts, "parts")
-    if not trials.fails(parts):
-        return None
-    verdicts = tuple([(number, trials.ask(without(parts, (number,)))) for number in parts])
-    return (parts, verdicts) if all([verdict != "fail" for number, verdict in verdicts]) else None
+    return paper_by(trials, parts, ones_less(parts))
 
 
 def isolated_paper(trials, passing, failing):
@@ -33,13 +42,6 @@ def isolated_paper(trials, passing, failing):
     return (passing, failing, verdicts) if is_near(verdicts) else None
 
 
-def known_by(rows):
-    """The VERDICTS that ROWS tell, by CONFIGURATION."""
-    if not are_rows(rows):
-        raise BadValue("rows")
-    return {parts: verdict for parts, verdict in rows}
-
-
 def is_told(thing, row):
     """Whether anything is a row (NUMBER, VERDICT ..), of the very kinds; no VERDICT is None, as where one lacks."""
     if not is_tuple_of(thing, len(row)) or not is_number(thing[0], row[0], row[0]):
@@ -52,21 +54,26 @@ def are_told(thing, rows):
     return is_tuple_of(thing, len(rows)) and all([is_told(told, row) for told, row in zip(thing, rows)])
 
 
-def check_least(rows, paper):
-    """Whether the PAPER of a LEAST CONFIGURATION comes out by ROWS."""
-    known = known_by(rows)
-    if not is_tuple_of(paper, 2) or not is_configuration(paper[0]):
-        return False
+def comes_out(known, paper, left):
+    """Whether the PAPER of a CONFIGURATION comes out by what is known of what is left of it, by number."""
     parts, verdicts = paper
-    told = [(number, known.get(without(parts, (number,)))) for number in parts]
+    told = [(number, known.get(left[number])) for number in parts]
     if known.get(parts) != "fail" or not are_told(verdicts, told):
         return False
     return all([verdict != "fail" for number, verdict in told])
 
 
+def check_least(rows, paper):
+    """Whether the PAPER of a LEAST CONFIGURATION comes out by ROWS."""
+    known = known_by(rows, is_row)
+    if not is_tuple_of(paper, 2) or not is_configuration(paper[0]):
+        return False
+    return comes_out(known, paper, ones_less(paper[0]))
+
+
 def check_isolated(rows, paper):
     """Whether the PAPER of an ISOLATED pair comes out by ROWS."""
-    known = known_by(rows)
+    known = known_by(rows, is_row)
     if not is_tuple_of(paper, 3) or not is_configuration(paper[0]) or not is_configuration(paper[1]):
         return False
     passing, failing, verdicts = paper

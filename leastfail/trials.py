@@ -21,57 +21,81 @@ def is_row(thing):
     return is_configuration(thing[0]) and is_verdict(thing[1])
 
 
-def are_rows(thing):
-    """Whether anything is a list or a tuple of ROWS, no CONFIGURATION twice."""
+def are_rows(thing, is_one):
+    """Whether anything is a list or a tuple of such rows as are told, none of them of one thing twice."""
     if not isinstance(thing, (list, tuple)):
         return False
     seen = set()
     for row in thing:
-        if not is_row(row) or row[0] in seen:
+        if not is_one(row) or row[0] in seen:
             return False
         seen.add(row[0])
     return True
 
 
-class Trials:
-    """What is known of a TEST, and how often it may be CALLED."""
+def known_by(rows, is_one):
+    """The VERDICTS that such rows as are told tell, by what they are of."""
+    if not are_rows(rows, is_one):
+        raise BadValue("rows")
+    return {asked: verdict for asked, verdict in rows}
 
-    def __init__(self, test, *, most=MOST_CALLS, known=()):
+
+class Answers:
+    """What is known of a TEST, whatever it is CALLED with, and how often it may be CALLED."""
+
+    def __init__(self, test, most, known, is_one):
         if not is_number(most, 0, MOST_HANDED):
             raise BadValue("most")
-        if not are_rows(known):
+        if not are_rows(known, is_one):
             raise BadValue("known")
         self.test = test
         self.most = most
-        self.verdicts = {parts: verdict for parts, verdict in known}
+        self.verdicts = {asked: verdict for asked, verdict in known}
         self.called = []
         self.calling = False
 
-    def ask(self, parts):
-        """The VERDICT of a CONFIGURATION, CALLED if it isn't known."""
-        want_configuration(parts, "parts")
+    def answer(self, asked):
+        """The VERDICT of a thing of the right kind, CALLED if it isn't known."""
         if self.calling:
             raise Nested()
-        if parts in self.verdicts:
-            return self.verdicts[parts]
+        if asked in self.verdicts:
+            return self.verdicts[asked]
         if len(self.called) >= self.most:
             raise Spent(self.most)
-        verdict = self.call_test(parts)
-        self.verdicts[parts] = verdict
-        self.called.append((parts, verdict))
+        verdict = self.call_test(asked)
+        self.verdicts[asked] = verdict
+        self.called.append((asked, verdict))
         return verdict
 
-    def call_test(self, parts):
+    def call_test(self, asked):
         """What the TEST tells; whatever it raises goes on, but the call is over then, too."""
         test = self.test
         self.calling = True
         try:
-            told = test(parts)
+            told = test(asked)
         finally:
             self.calling = False
         if not is_verdict(told):
             raise BadVerdict(told)
         return told
+
+    def raise_most(self, more):
+        """Makes MOST so much greater."""
+        if not is_number(more, 0, MOST_HANDED):
+            raise BadValue("more")
+        self.most += more
+
+
+class Trials(Answers):
+    """What is known of a TEST of CONFIGURATIONS, and how often it may be CALLED."""
+
+    def __init__(self, test, *, most=MOST_CALLS, known=()):
+        Answers.__init__(self, test, most, known, is_row)
+
+    def ask(self, parts):
+        """The VERDICT of a CONFIGURATION, CALLED if it isn't known."""
+        want_configuration(parts, "parts")
+        return self.answer(parts)
 
     def fails(self, parts):
         """Whether a CONFIGURATION FAILS."""
@@ -96,9 +120,7 @@ class Trials:
 
     def allow(self, more):
         """Lets so many more be CALLED."""
-        if not is_number(more, 0, MOST_HANDED):
-            raise BadValue("more")
-        self.most += more
+        self.raise_most(more)
 
     def left(self):
         """How many may be CALLED still."""

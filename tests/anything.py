@@ -78,3 +78,15 @@ NO_TEXTS = things() + [0, 1, -1, 10 ** 30, (), [], ("x",), ["x"]]
 NO_CONFIGURATIONS = things() + ["", "01", "x" * 5000, 0, 1, -1, 10 ** 30, [], [0], [0, 1], ["x"], ("0",)]
 NO_PIECES = things() + ["", "abc", 0, 3, (0,), [0], ["a", None], ["a", 0, "b"], ("a", ["b"])]
 NO_VERDICTS = NO_TEXTS + ["", "Fail", "FAIL", "fail ", " fail", "fai", "failpass", "passed", "x" * 5000]
+NO_ROWS = [
+    [()], [((),)], [((0,), "fail", "pass")], [[(0,), "fail"]], [((0,), "Fail")], [([0], "fail")], [((True,), "fail")],
+    [((0,), "fail"), ((0,), "fail")], [((0,), "fail"), ((1,), "pass"), ((0,), "pass")], (((0,), "fail"), None),
+    [((1, 0), "fail")], [((0, 120), "fail")], {((0,), "fail")}, {(0,): "fail"}, iter([((0,), "fail")]),
+    "", "x", 0, 7, ((0,), "fail"), [((0,), None)], [(deep_tuple(), "fail")], [((0,), deep_tuple())],
+]
+NO_TEXT_ROWS = [
+    [()], [("",)], [("a", "fail", "pass")], [["a", "fail"]], [("a", "Fail")], [(("a",), "fail")], [(True, "fail")],
+    [("a", "fail"), ("a", "fail")], [("a", "fail"), ("b", "pass"), ("a", "pass")], (("a", "fail"), None),
+    [(b"a", "fail")], [(0, "fail")], [((), "fail")], {("a", "fail")}, {"a": "fail"}, iter([("a", "fail")]),
+    "", "ab", 0, 7, ("a", "fail"), [("a", None)], [(deep_tuple(), "fail")], [("a", deep_tuple())], [("a", deep_list())],
+]

@@ -8,7 +8,7 @@ from leastfail.cuts import cut_by, cuts_of, optional, places, thing_at
 from leastfail.grammars import Grammar
 from leastfail.trees import is_tree, read_tree, text_of
 from tests.anything import NO_TEXTS, Hostile, deep_list, deep_tuple, endless_list, shared_tuple, things
-from tests.languages import ALL, LISTS, MANY, NEST, ROUND, choices_of, tokens_in, trees_of
+from tests.languages import ALL, LISTS, MANY, NEST, ROUND, all_places, choices_of, right_cuts, tokens_in, trees_of
 from tests.refusals import RefusalTests
 
 MOST = {LISTS: 12, MANY: 6, NEST: 10, ROUND: 11}
@@ -26,62 +26,9 @@ NO_CUTS = things() + ["", "drop", 0, [], ["drop", (1, 0)], ("drop",), ("drop", [
                       ("lift", (), (1, 0, 1, 0))]
 
 
-def all_places(text, thing, place=()):
-    """By the GRAMMAR: the PLACES of all TREES and of what is MARKED, each with the THING and whether it is OPTIONAL."""
-    found = {}
-    name, choice, parts = thing
-    for at, (item, part) in enumerate(zip(choices_of(text)[name][choice], parts)):
-        marked = item[-1] in "?*"
-        for number, one in enumerate(part if marked else (part,)):
-            here = place + ((at, number) if marked else (at,))
-            if marked or isinstance(one, tuple):
-                found[here] = one, marked
-            if isinstance(one, tuple):
-                found.update(all_places(text, one, here))
-    return {place: (thing, False), **found} if place == () else found
-
-
 def repr_of(thing):
     """How a short tuple of numbers is shown, "" of all else."""
     return repr(thing) if type(thing) is tuple and len(thing) < 9 and {type(one) for one in thing} == {int} else ""
-
-
-def changed(thing, place, new):
-    """A TREE with another THING, or none, at a PLACE, made by lists."""
-    if place == ():
-        return new
-    name, choice, parts = thing
-    parts = list(parts)
-    at, *rest = place
-    part = parts[at]
-    if len(part) == 3 and isinstance(part[1], int):
-        parts[at] = changed(part, tuple(rest), new)
-    else:
-        row = list(part)
-        if len(rest) == 1 and new is None:
-            del row[rest[0]]
-        else:
-            row[rest[0]] = changed(row[rest[0]], tuple(rest[1:]), new)
-        parts[at] = tuple(row)
-    return name, choice, tuple(parts)
-
-
-def right_cuts(text, tree):
-    """Each ALLOWED CUT with what comes of it, in their order."""
-    found = all_places(text, tree)
-    trees = {place: thing for place, (thing, _) in found.items() if isinstance(thing, tuple)}
-    rows = [(("drop", place), changed(tree, place, None)) for place, (_, marked) in sorted(found.items()) if marked]
-    for place in sorted(trees):
-        least = Grammar(text).least_tree(trees[place][0])
-        if len(tokens_in(trees[place])) > len(tokens_in(least)):
-            rows.append((("least", place), changed(tree, place, least)))
-    lifts = []
-    for place in trees:
-        for lower in trees:
-            behind = lower[len(place):]
-            if behind and place + behind == lower and trees[place][0] == trees[lower][0]:
-                lifts.append((("lift", place, behind), changed(tree, place, trees[lower])))
-    return rows + sorted(lifts)
 
 
 class InterfaceTests(unittest.TestCase):

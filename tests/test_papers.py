@@ -11,18 +11,10 @@ from leastfail.halving import halved
 from leastfail.isolating import isolated
 from leastfail.papers import check_isolated, check_least, isolated_paper, least_paper
 from leastfail.trials import Trials
-from tests.anything import NO_CONFIGURATIONS, NO_VERDICTS, deep_list, deep_tuple, endless_list, shared_tuple, things
+from tests.anything import NO_CONFIGURATIONS, NO_ROWS, NO_VERDICTS, deep_tuple, things
+from tests.otherwise import STRANGE, is_same, others
 from tests.refusals import RefusalTests
 from tests.tables import VERDICTS, Table, Told, Wanting, drawn_tests, less, more, tables, within
-
-NO_ROWS = [
-    [()], [((),)], [((0,), "fail", "pass")], [[(0,), "fail"]], [((0,), "Fail")], [([0], "fail")], [((True,), "fail")],
-    [((0,), "fail"), ((0,), "fail")], [((0,), "fail"), ((1,), "pass"), ((0,), "pass")], (((0,), "fail"), None),
-    [((1, 0), "fail")], [((0, 120), "fail")], {((0,), "fail")}, {(0,): "fail"}, iter([((0,), "fail")]),
-    "", "x", 0, 7, ((0,), "fail"), [((0,), None)], [(deep_tuple(), "fail")], [((0,), deep_tuple())],
-]
-STRANGE = [None, -1, 0, 1, True, False, 119, "fail", "pass", "unresolved", "Fail", "", (), [], {}, deep_tuple(),
-           deep_list(), shared_tuple(), endless_list(), 10 ** 30, b"fail", object()]
 
 
 def papers_of(table):
@@ -47,31 +39,6 @@ def pair_papers_of(table):
             near = len(numbers) == 1 or all(row[1:] == ("unresolved", "unresolved") for row in verdicts)
             told[passing, failing] = (passing, failing, verdicts) if right and near else None
     return told
-
-
-def others(thing):
-    """What is otherwise in one place than a thing of tuples is, and things of other kinds in that place."""
-    yield from [strange for strange in STRANGE if strange is not thing]
-    if isinstance(thing, tuple):
-        yield list(thing)
-        for at in range(len(thing)):
-            yield thing[:at] + thing[at + 1:]
-            yield thing[:at] + (thing[at],) + thing[at:]
-            if at:
-                yield thing[:at - 1] + (thing[at], thing[at - 1]) + thing[at + 1:]
-            for other in others(thing[at]):
-                yield thing[:at] + (other,) + thing[at + 1:]
-        yield thing + ((),)
-        yield thing + thing[-1:]
-    elif isinstance(thing, int):
-        yield from (thing + 1, thing - 1, str(thing), (thing,))
-
-
-def is_same(thing, other):
-    """Whether both are the same, of the very kinds."""
-    if isinstance(thing, tuple) and isinstance(other, tuple):
-        return len(thing) == len(other) and all(is_same(one, two) for one, two in zip(thing, other))
-    return type(thing) is type(other) and not isinstance(thing, (tuple, list)) and thing == other
 
 
 class InterfaceTests(unittest.TestCase):

@@ -298,8 +298,8 @@ class ReadTests(RefusalTests):
 
     def test_place_0(self):
         grammar = Grammar(MANY)
-        for text in ("", " ", "  ", " a", "a ", "b  a", "i  i", " i", "b\na ", " b\na", "b  \na", "\n ", " \n", "\n  \n",
-                     "a" + " " * 300, " ".join(["b"] * 200) + " ", "b\n" * 200 + " "):
+        for text in ("", " ", "  ", " a", "a ", "b  a", "i  i", " i", "b\na ", " b\na", "b  \na", "\n ", " \n",
+                     "\n  \n", "a" + " " * 300, " ".join(["b"] * 200) + " ", "b\n" * 200 + " "):
             self.bad(0, grammar, text)
         for at, thing in enumerate(NO_TEXTS):
             with self.subTest(at=at):
