@@ -112,6 +112,12 @@ class Case:
         return f"Case({len(self.texts)} pieces)"
 
 
+def want_case(thing):
+    """Refuses what is no CASE."""
+    if not isinstance(thing, Case):
+        raise BadValue("case")
+
+
 def cut_lines(text):
     """A text in pieces that end behind a line end, or where the text ends."""
     *ended, rest = text.split("\n")

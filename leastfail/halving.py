@@ -17,18 +17,17 @@ def round_of(parts, many):
     return asked
 
 
-class Halving:
-    """The way from a failing CONFIGURATION to a LEAST one, which can be gone by and by."""
+class Walk:
+    """How far the way by halves has come, from a CONFIGURATION of which it is known that it FAILS."""
 
     def __init__(self, trials, parts):
-        want_failing(trials, parts)
         self.trials = trials
         self.parts = parts
         self.into = 2
         # Where the empty one doesn't FAIL the first round is right behind it, as behind any that doesn't.
         self.ahead = [((), 2)] + round_of(parts, 2)
 
-    def go(self, *, calls=1):
+    def go_on(self, calls):
         """Goes on until it is over, or so many were CALLED and the next isn't known."""
         if not is_number(calls, 0, MOST_HANDED):
             raise BadValue("calls")
@@ -56,17 +55,40 @@ class Halving:
         else:
             self.ahead = []
 
+    def twin(self, trials):
+        """Another one that has come as far, by TRIALS that know as much."""
+        other = Walk(trials, self.parts)
+        other.into = self.into
+        other.ahead = list(self.ahead)
+        return other
+
+    def is_as_far(self, other):
+        """Whether another one stands where this one does."""
+        return self.parts == other.parts and self.into == other.into and self.ahead == other.ahead
+
+
+class Halving:
+    """The way from a failing CONFIGURATION to a LEAST one, which can be gone by and by."""
+
+    def __init__(self, trials, parts):
+        want_failing(trials, parts)
+        self.walk = Walk(trials, parts)
+
+    def go(self, *, calls=1):
+        """Goes on, so many being CALLED at the most: whether it is over."""
+        return self.walk.go_on(calls)
+
     def is_over(self):
         """Whether what it stands at is what is told in the end."""
-        return self.ahead == []
+        return self.walk.ahead == []
 
     def stands(self):
         """The CONFIGURATION that it has come to, which FAILS."""
-        return self.parts
+        return self.walk.parts
 
     def many(self):
         """In how many that one is PARTED."""
-        return self.into
+        return self.walk.into
 
 
 def halved(trials, parts):

@@ -1,6 +1,6 @@
 """LINKS: what hangs on what."""
 
-from leastfail.cases import MOST_PIECES, Case, want_configuration, without
+from leastfail.cases import MOST_PIECES, want_case, want_configuration, without
 from leastfail.errors import BadValue
 from leastfail.kinds import is_number, is_tuple_of
 
@@ -97,8 +97,7 @@ def words_in(text):
 
 def links_of(case):
     """A CASE's own LINKS."""
-    if not isinstance(case, Case):
-        raise BadValue("case")
+    want_case(case)
     tellers = {}
     found = set()
     for number, piece in enumerate(case.pieces()):

@@ -33,20 +33,27 @@ def of_level(tree, level):
             if len([at for at in range(len(place)) if place[:at] in begins]) == level]
 
 
-def part_without(part, place, gone):
-    """What is left of a PART at a place, or of a THING, without the THINGS at the PLACES that are gone."""
-    if isinstance(part, str):
-        return part
-    if is_branch(part):
-        return tree_without(part, place, gone)
-    left = [number for number in range(len(part)) if place + (number,) not in gone]
-    return tuple([part_without(part[number], place + (number,), gone) for number in left])
+def things_without(things, place, gone):
+    """What is left of the THINGS of a MARKED PART at a place without those at the PLACES that are gone."""
+    left = []
+    for number, thing in enumerate(things):
+        here = place + (number,)
+        if here not in gone:
+            left.append(tree_without(thing, here, gone) if is_branch(thing) else thing)
+    return tuple(left)
 
 
 def tree_without(tree, place, gone):
     """What is left of a TREE at a PLACE without the THINGS at the PLACES that are gone."""
     name, choice, parts = tree
-    left = [part_without(part, place + (at,), gone) for at, part in enumerate(parts)]
+    left = []
+    for at, part in enumerate(parts):
+        if is_branch(part):
+            left.append(tree_without(part, place + (at,), gone))
+        elif isinstance(part, tuple):
+            left.append(things_without(part, place + (at,), gone))
+        else:
+            left.append(part)
     return name, choice, tuple(left)
 
 

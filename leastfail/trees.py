@@ -3,7 +3,7 @@
 from leastfail.errors import BadToken, BadValue
 from leastfail.forms import bare, is_marked, is_token
 from leastfail.grammars import want_grammar, want_name
-from leastfail.kinds import is_number, is_tuple_of
+from leastfail.kinds import is_number, is_tuple_of, single_words
 
 MOST_TOKENS = 100
 
@@ -139,9 +139,7 @@ def read_tree(grammar, text, *, name=None):
     want_grammar(grammar)
     if name is not None:
         want_name(grammar, name)
-    words = text.split(" ") if isinstance(text, str) else []
-    if words == [] or "" in words:
-        raise BadToken(0)
+    words = single_words(text)
     tree, behind = read_name(grammar, grammar.start() if name is None else name, words[:MOST_TOKENS], 0)
     if behind < len(words):
         raise BadToken(behind + 1)

@@ -133,6 +133,12 @@ class Trials(Answers):
         other.most = self.most
         return other
 
+    def twin(self):
+        """Other TRIALS of the very TEST that stand as these do, ROWS, too."""
+        other = self.same_test()
+        other.called = self.rows()
+        return other
+
     def __len__(self):
         return len(self.called)
 
