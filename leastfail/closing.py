@@ -1,6 +1,6 @@
 """CLOSED DOWN: a failing CONFIGURATION made less, all that is tried having what it hangs on."""
 
-from leastfail.cases import is_configuration, want_configuration, without
+from leastfail.cases import is_configuration, without
 from leastfail.errors import BadValue
 from leastfail.kinds import is_tuple_of
 from leastfail.links import falls_of, is_closed, want_links
@@ -11,8 +11,6 @@ from leastfail.trials import is_row, known_by, want_trials, want_verdict
 def want_closed(trials, links, parts):
     """Refuses what are no TRIALS, no LINKS, and no CLOSED CONFIGURATION."""
     want_trials(trials)
-    want_links(links)
-    want_configuration(parts, "parts")
     if not is_closed(links, parts):
         raise BadValue("parts")
 

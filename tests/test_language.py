@@ -1,9 +1,12 @@
 """Those rules of the language that can be read off the files of the package."""
 
 import ast
+import builtins
 import re
 import unittest
 from pathlib import Path
+
+from leastfail import errors
 
 PACKAGE = Path(__file__).resolve().parent.parent / "leastfail"
 FILES = sorted(path for path in PACKAGE.rglob("*") if path.is_file() and "__pycache__" not in path.parts)
@@ -86,6 +89,31 @@ class LanguageTests(unittest.TestCase):
 
     def test_names(self):
         self.none((place, name) for place, name in bound_names() if name.startswith("_") and name not in DOUBLE)
+
+    def test_no_local_name_is_that_of_an_import_a_class_or_a_builtin(self):
+        for path in FILES:
+            tree = ast.parse(path.read_text())
+            above = {name.name for node in tree.body if isinstance(node, ast.ImportFrom) for name in node.names}
+            above |= {node.name for node in tree.body if isinstance(node, ast.ClassDef)} | set(dir(builtins))
+            named = [node.arg if isinstance(node, ast.arg) else node.id for node in ast.walk(tree)
+                     if isinstance(node, ast.arg) or isinstance(node, ast.Name) and isinstance(node.ctx, ast.Store)]
+            self.none((path.name, name) for name in named if name in above)
+
+    def test_each_import_is_used(self):
+        for path in FILES:
+            tree = ast.parse(path.read_text())
+            used = {node.id for node in ast.walk(tree) if isinstance(node, ast.Name)}
+            self.none((path.name, name.name) for node in tree.body if isinstance(node, ast.ImportFrom)
+                      for name in node.names if name.name not in used)
+
+    def test_errors_that_are_caught_are_own_ones_and_have_names_of_their_own(self):
+        for path in FILES:
+            tree = ast.parse(path.read_text())
+            for function in [node for node in ast.walk(tree) if isinstance(node, ast.FunctionDef)]:
+                caught = [node for node in ast.walk(function) if isinstance(node, ast.ExceptHandler)]
+                names = [node.name for node in caught if node.name]
+                self.assertEqual(len(names), len(set(names)), function.name)
+                self.none(ast.unparse(node.type) for node in caught if not hasattr(errors, ast.unparse(node.type)))
 
     def test_constants(self):
         for place, node in nodes(ast.Constant):
